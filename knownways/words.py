@@ -1,0 +1,17 @@
+"""What counts as a name and as an integer."""
+
+LETTERS = "abcdefghijklmnopqrstuvwxyz"
+KEPT_WORDS = ("if", "else", "end")
+LONGEST_NAME = 4
+
+
+def is_name(value):
+    """Whether any value is a name."""
+    if not isinstance(value, str) or not 1 <= len(value) <= LONGEST_NAME:
+        return False
+    return value not in KEPT_WORDS and all([letter in LETTERS for letter in value])
+
+
+def is_integer(value):
+    """Whether any value is an integer; True and False are none."""
+    return isinstance(value, int) and not isinstance(value, bool)

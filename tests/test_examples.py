@@ -1,0 +1,94 @@
+"""The examples of the document, word for word."""
+
+import unittest
+
+from knownways import errors
+
+EXAMPLES = r'''
+>>> from knownways.steps import Step
+>>> h = Step('h', '+-')
+>>> (h.name, h.ways, len(h), str(h))
+('h', '+-', 2, 'h +-')
+
+>>> from knownways.steps import Step
+>>> Step('if', '+')
+raises InvalidStep('name')
+
+>>> from knownways.steps import Step
+>>> f = Step('f', '+')
+>>> g = Step('g', '-')
+>>> chain = f * g ** 2
+>>> (str(chain), len(chain), str(chain('x')))
+('f g g', 3, 'f(g(g(x)))')
+
+>>> from knownways.steps import Step
+>>> f = Step('f', '+')
+>>> (str(f('x') & 'y'), str('y' | f('x')), len(f('x') & 'y'))
+('lesser(f(x), y)', 'greater(y, f(x))', 4)
+
+>>> from knownways.steps import Step
+>>> Step('f', '+')('x', 'y')
+raises InvalidExpr('count')
+
+>>> from knownways.steps import Step
+>>> from knownways.traits import Trait, Traits
+>>> f = Step('f', '+')
+>>> g = Step('g', '+')
+>>> told = Traits(Trait('up', f), Trait('below', f, g))
+>>> (str(told), len(told), Trait('up', f) in told, told.is_part_of(Traits(Trait('up', f))))
+('below f g\nup f', 2, True, False)
+
+>>> from knownways.steps import Step
+>>> from knownways.traits import Trait
+>>> Trait('up', Step('f', '-'))
+raises InvalidTrait('ways')
+
+>>> from knownways.steps import Step
+>>> from knownways.traits import Trait, Traits
+>>> f = Step('f', '+')
+>>> g = Step('g', '+')
+>>> Traits(Trait('below', f, g), Trait('settled', g))
+raises InvalidTrait('below')
+
+>>> from knownways.steps import Step
+>>> from knownways.programs import Draft
+>>> from knownways.rows import Put
+>>> f = Step('f', '+')
+>>> draft = Draft()
+>>> draft.add(Put('x', f('y')))
+>>> (str(draft.program()), len(draft))
+('x = f(y)', 1)
+'''
+
+
+def told(example):
+    """The rows of a session, and the line that it shows."""
+    lines = example.strip().split("\n")
+    return [line.removeprefix(">>> ") for line in lines[:-1]], lines[-1]
+
+
+def shown(rows):
+    """What a session of these rows shows at its end."""
+    names = {}
+    for row in rows[:-1]:
+        exec(row, names)
+    try:
+        return repr(eval(rows[-1], names))
+    except errors.WaysError as error:
+        arguments = ", ".join(repr(value) for value in vars(error).values())
+        return f"raises {error.__class__.__name__}" + (f"({arguments})" if arguments else "")
+
+
+class Examples(unittest.TestCase):
+
+    def test_each_example(self):
+        examples = EXAMPLES.strip().split("\n\n")
+        self.assertEqual(len(examples), 9)
+        for example in examples:
+            rows, line = told(example)
+            with self.subTest(rows[-1]):
+                self.assertEqual(shown(rows), line)
+
+
+if __name__ == "__main__":
+    unittest.main()

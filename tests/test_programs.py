@@ -91,6 +91,12 @@ class Looked(Case):
             for at in range(many):
                 self.assertIsNotNone(program[at])
 
+    def test_the_error_keeps_the_number_itself(self):
+        at = 10 ** 30
+        with self.assertRaises(NoRow) as caught:
+            Program([PUT])[at]
+        self.assertTrue(caught.exception.at is at)
+
     def test_str(self):
         self.assertEqual(str(Program([OTHER, CHOICE, LOOP])),
                          "y = g(f(x))\nif x <= f(y)\nx = f(y)\nif y <= z\nrefuse no\nelse\ny = g(f(x))\nstill\n"

@@ -19,5 +19,5 @@ def all_steps(holders, more=()):
 
 
 def share_a_name(steps):
-    """Whether two of these steps, of which no two are equal, have one name."""
+    """Whether one name stands more than once among these steps."""
     return len({step.name for step in steps}) < len(steps)

@@ -17,6 +17,7 @@ class Row:
         self.kind = kind
         self.told = told
         self.inner = inner
+        self.size = 1 + sum([row.size for row in inner])
         self.names = all_names(exprs + inner, own_names)
         self.steps = all_steps(exprs + inner)
 
@@ -82,7 +83,7 @@ class Still(Row):
 
     def __init__(self, rows):
         self.rows = checked_rows(rows)
-        if not 1 <= len(self.rows) <= MOST_LOOP_ROWS or not all([_may_loop(row) for row in self.rows]):
+        if not 1 <= len(self.rows) <= MOST_LOOP_ROWS or not all([may_loop(row) for row in self.rows]):
             raise InvalidRow("loop")
         Row.__init__(self, "still", self.rows, (), self.rows)
 
@@ -96,6 +97,13 @@ def checked_rows(value):
     return tuple(value)
 
 
+def may_loop(row):
+    """Whether the row may stand in a loop."""
+    if not isinstance(row, Raise) or row.expr.kind != "step":
+        return False
+    return row.expr.step.ways in RISING_WAYS and all([part.kind == "name" for part in row.expr.parts])
+
+
 def _set_name(value):
     if not is_name(value):
         raise InvalidRow("name")
@@ -107,9 +115,3 @@ def _row_expr(value):
     if expr is None:
         raise InvalidRow("expr")
     return expr
-
-
-def _may_loop(row):
-    if not isinstance(row, Raise) or row.expr.kind != "step":
-        return False
-    return row.expr.step.ways in RISING_WAYS and all([part.kind == "name" for part in row.expr.parts])

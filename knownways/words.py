@@ -1,4 +1,4 @@
-"""What counts as a name and as an integer."""
+"""What counts as a name, as an integer and as a value of a world."""
 
 LETTERS = "abcdefghijklmnopqrstuvwxyz"
 KEPT_WORDS = ("if", "else", "end")
@@ -15,3 +15,8 @@ def is_name(value):
 def is_integer(value):
     """Whether any value is an integer; True and False are none."""
     return isinstance(value, int) and not isinstance(value, bool)
+
+
+def is_value(value, size):
+    """Whether any value is an integer below the size of a world."""
+    return is_integer(value) and 0 <= value < size

@@ -3,11 +3,14 @@
 import unittest
 
 from knownways import errors
+from knownways.comparisons import Comparison
 from knownways.exprs import named
 from knownways.programs import Draft, Program
 from knownways.rows import If, Lower, Put, Raise, Refuse, Still
+from knownways.running import run
 from knownways.steps import Chain, Step
 from knownways.traits import Trait, Traits
+from knownways.worlds import World
 
 # The attribute in which each error keeps its argument.
 ARGUMENTS = {
@@ -52,8 +55,9 @@ def plain_values():
 def package_objects():
     """Objects of the package that are neither steps, traits, expressions nor rows."""
     return [Chain(), Chain(F), Chain(F, G), Traits(), Traits(Trait("up", F)), Program(),
-            Program([Put("x", "y")]), Draft(), errors.InvalidStep("name"), errors.NoRow(3),
-            errors.Impossible(), errors.WaysError(), [Program()], (Chain(F), [Traits()])]
+            Program([Put("x", "y")]), Draft(), World(2, [(F, (0, 1))]), run(Program(), World(1, []), {}),
+            Comparison("x", "<=", F("x")), errors.InvalidStep("name"), errors.NoRow(3), errors.Impossible(),
+            errors.WaysError(), [Program()], (Chain(F), [Traits()])]
 
 
 def some_steps():

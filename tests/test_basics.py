@@ -2,14 +2,18 @@
 
 import unittest
 
-from knownways.errors import NoRow
+from knownways.comparisons import Comparison
+from knownways.errors import InvalidStart, InvalidText, NoName, NoRow, NoStep
 from knownways.exprreader import read_expr
 from knownways.exprs import named
 from knownways.programs import Draft, Program
+from knownways.reader import read
 from knownways.rows import If, Lower, Put, Raise, Refuse, Row, Still
+from knownways.running import run
 from knownways.steps import Chain, Step
 from knownways.traits import Trait, Traits
-from knownways.words import is_integer, is_name
+from knownways.words import is_integer, is_name, is_value
+from knownways.worlds import World, worlds
 from tests.helpers import F, G, H, K, Case, anything, no_names, some_rows
 
 
@@ -29,13 +33,23 @@ class Words(Case):
                 self.assertIs(is_integer(value), False, value)
 
 
+    def test_values(self):
+        for size in (1, 2, 3, 16):
+            self.assertEqual([at for at in range(-20, 20) if is_value(at, size)], list(range(size)))
+            for value in anything() + [10 ** 50, -10 ** 50, 0.0]:
+                if value.__class__ is not int or value not in range(size):
+                    self.assertIs(is_value(value, size), False, value)
+
+
 class Unchanged(Case):
 
     def everything(self):
         """Objects of all kinds, and what is seen of them from outside."""
         put = Put("x", H(F("y"), "z"))
         things = [F, Chain(F, G), Trait("up", F), Traits(Trait("up", F), Trait("mean", Step("m", "++"))), H("x", F("y")),
-                  named("x") & "y", put, Program([put, If("x", "y", [put], [Refuse("no")])]), *some_rows()]
+                  named("x") & "y", put, Program([put, If("x", "y", [put], [Refuse("no")])]),
+                  World(2, [[F, [0, 1]], [H, [[0, 0], [1, 0]]]]), Comparison(F("x"), "<=", "y"),
+                  run(Program([Refuse("no")]), World(1, []), {"x": 0}), *some_rows()]
         seen = [self.seen(thing) for thing in things]
         return things, seen
 
@@ -44,18 +58,28 @@ class Unchanged(Case):
 
     def test_no_call_changes_an_object(self):
         things, seen = self.everything()
-        step, chain, trait, traits, expr, _, row, program = things[:8]
+        step, chain, trait, traits, expr, _, row, program, world, told, end = things[:11]
+        kept = Traits(trait)
+        start = {"x": 0, "y": 1, "z": 1}
         for _ in range(2):
             made = [step("x"), step * chain, chain * step, step ** 3, chain ** 2, chain(expr), step(expr), expr & expr,
                     expr | "x", "x" & expr, traits | traits, traits - traits, traits & Traits(), traits ^ traits,
                     Traits(trait), Put("x", expr), If(expr, expr, [row], [row]), program + program, 2 * program,
                     program * 3, Program([row, row]), read_expr(str(expr), [F, H]), len(expr), program[1],
-                    trait in traits, traits.is_part_of(traits), expr == step, str(program)]
+                    trait in traits, traits.is_part_of(traits), expr == step, str(program),
+                    read(str(program), [F, H]), world[F], world.keeps(kept), world.value(step("x"), start),
+                    run(program, world, start), list(worlds([F, G], 2, kept)), told.holds(world, start), str(told),
+                    world == told, end == run(Program(), world, start)]
             draft = Draft()
             draft.add(row)
             draft["x"] = expr
-            self.assertEqual(len(made), 28)
-            self.check_error(NoRow, 99, lambda told, at: told[at], program, 99)
+            self.assertEqual(len(made), 38)
+            self.check_error(NoRow, 99, lambda rows, at: rows[at], program, 99)
+            self.check_error(NoStep, "g", world.value, G("x"), start)
+            self.check_error(NoName, "a", run, Program([Put("a", "a")]), world, start)
+            self.check_error(InvalidStart, "q", told.holds, world, {**start, "q": None})
+            self.check_error(InvalidText, 1, read, "x = y\nx", [F])
+            self.assertEqual(list(start.items()), [("x", 0), ("y", 1), ("z", 1)])
             self.assertEqual([self.seen(thing) for thing in things], seen)
 
     def test_the_same_call_gives_an_equal_result(self):
@@ -79,11 +103,15 @@ class Unchanged(Case):
         self.check_equal(If("x", "y", rows, tuple(rows)), If("x", "y", tuple(rows), rows))
         self.check_equal(Still([Raise("x", F("y"))]), Still((Raise("x", F("y")),)))
         self.check_equal(read_expr("f(x)", [F, G]), read_expr("f(x)", (F, G)))
+        self.check_equal(read("x = f(x)", [F, G]), read("x = f(x)", (F, G)))
+        self.check_equal(World(2, [[F, [0, 1]]]), World(2, ((F, (0, 1)),)))
+        self.assertEqual([world[F] for world in worlds([F], 2)], [world[F] for world in worlds((F,), 2)])
 
     def test_objects_of_unlike_classes_are_unlike(self):
         self.check_all_unlike([F, Chain(F), Trait("up", F), Traits(Trait("up", F)), F("x"), named("f"), Put("f", "x"),
                                Raise("f", "x"), Lower("f", "x"), Program([Put("f", "x")]), Refuse("f"), Program(),
-                               Chain(), Traits(), (), [], "f", 0, None])
+                               Chain(), Traits(), World(1, []), run(Program(), World(1, []), {}),
+                               Comparison("f", "<", "x"), (), [], {}, "f", 0, None])
 
 
 class BeyondTheLimits(Case):
@@ -102,6 +130,22 @@ class BeyondTheLimits(Case):
         self.assertEqual((len(program * 6), len(F ** 12), len(Chain(F, G) ** 12)), (210, 12, 24))
         told = [Trait("up", Step(name, "+")) for name in "abcdefghijklmnop"]
         self.assertEqual(len(Traits(*told)), 16)
+
+    def test_there_is_no_error_in_worlds(self):
+        step, expr = Step("k", "+++"), F("x")
+        for _ in range(20):
+            expr = F(expr)
+        world = World(16, [(F, [*range(1, 16), 15]), (step, [[[0] * 16] * 16] * 16)])
+        self.assertEqual(world.value(expr, {"x": 0}), 15)
+        self.assertTrue(Comparison(expr, "==", step(expr, expr, "y") | F(expr)).holds(world, {"x": 1, "y": 2}))
+        row = Put("x", F("x"))
+        for _ in range(8):
+            row = If("x", "y", [row], [row])
+        end = run(Program([row] * 20), world, {"x": 0, "y": 9})
+        self.assertEqual(end.held, {"x": 15, "y": 9})
+        text = "\n".join(["if x <= y"] * 60 + ["x = y"] + ["end"] * 60)
+        self.assertEqual(str(read(text, [])), text)
+        self.assertEqual(len(list(worlds([F, G], 5, Traits(Trait("up", F), Trait("down", F))))), 126)
 
 
 if __name__ == "__main__":

@@ -51,6 +51,19 @@ raises InvalidTrait('ways')
 raises InvalidTrait('below')
 
 >>> from knownways.steps import Step
+>>> from knownways.reader import read
+>>> f = Step('f', '+')
+>>> p = read('if x <= f(y)\ny |= f(x)\nelse\nrefuse no\nend', [f])
+>>> (len(p), p.weight, p.words, str(p[1]))
+(3, 2, ('no',), 'y |= f(x)')
+
+>>> from knownways.steps import Step
+>>> from knownways.reader import read
+>>> f = Step('f', '+')
+>>> read('still\nx |= f(x)\nx = y\nend', [f])
+raises InvalidText(2)
+
+>>> from knownways.steps import Step
 >>> from knownways.programs import Draft
 >>> from knownways.rows import Put
 >>> f = Step('f', '+')
@@ -58,6 +71,45 @@ raises InvalidTrait('below')
 >>> draft.add(Put('x', f('y')))
 >>> (str(draft.program()), len(draft))
 ('x = f(y)', 1)
+
+>>> from knownways.steps import Step
+>>> from knownways.reader import read
+>>> from knownways.running import run
+>>> from knownways.worlds import World
+>>> f = Step('f', '+')
+>>> world = World(3, [(f, (1, 2, 2))])
+>>> run(read('still\nx |= f(x)\nend', [f]), world, {'x': 0}).held
+{'x': 2}
+
+>>> from knownways.steps import Step
+>>> from knownways.reader import read
+>>> from knownways.running import run
+>>> from knownways.worlds import World
+>>> f = Step('f', '+')
+>>> p = read('if x <= f(y)\ny |= f(x)\nelse\nrefuse no\nend', [f])
+>>> end = run(p, World(3, [(f, (1, 2, 2))]), {'x': 2, 'y': 0})
+>>> (end.refused, end.at, end.held)
+('no', 2, {'x': 2, 'y': 0})
+
+>>> from knownways.steps import Step
+>>> from knownways.worlds import World
+>>> World(3, [(Step('f', '+'), (2, 1, 2))])
+raises InvalidWorld('ways')
+
+>>> from knownways.steps import Step
+>>> from knownways.traits import Trait, Traits
+>>> from knownways.worlds import World
+>>> f = Step('f', '+')
+>>> world = World(3, [(f, (1, 2, 2))])
+>>> (world.keeps(Traits(Trait('up', f))), world.keeps(Traits(Trait('settled', f))), world.value(f(f('x')), {'x': 0}))
+(True, False, 2)
+
+>>> from knownways.steps import Step
+>>> from knownways.worlds import worlds
+>>> f = Step('f', '+')
+>>> every = list(worlds([f], 2))
+>>> (len(every), every[1][f])
+(3, (0, 1))
 '''
 
 
@@ -83,7 +135,7 @@ class Examples(unittest.TestCase):
 
     def test_each_example(self):
         examples = EXAMPLES.strip().split("\n\n")
-        self.assertEqual(len(examples), 9)
+        self.assertEqual(len(examples), 16)
         for example in examples:
             rows, line = told(example)
             with self.subTest(rows[-1]):

@@ -22,6 +22,10 @@ LISTED = {
     "rows": {"Row": None, "Put": ["name", "expr"], "Raise": ["name", "expr"], "Lower": ["name", "expr"],
              "Refuse": ["word"], "If": ["left", "right", "rows", "others=()"], "Still": ["rows"]},
     "programs": {"Program": ["rows=()"], "Draft": []},
+    "reader": {"read": ["text", "steps"]},
+    "worlds": {"World": ["size", "tables"], "worlds": ["steps", "size", "traits=None"]},
+    "running": {"run": ["program", "world", "start"], "Ending": None},
+    "comparisons": {"Comparison": ["left", "sign", "right"]},
 }
 
 METHODS = {
@@ -30,6 +34,9 @@ METHODS = {
     ("traits", "Traits", "is_part_of"): ["others"],
     ("programs", "Draft", "add"): ["row"],
     ("programs", "Draft", "program"): [],
+    ("worlds", "World", "keeps"): ["traits"],
+    ("worlds", "World", "value"): ["expr", "start"],
+    ("comparisons", "Comparison", "holds"): ["world", "start"],
 }
 
 

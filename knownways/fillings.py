@@ -68,4 +68,4 @@ def _table_at(filled, at, size, depth):
     for _ in range(size):
         part, at = _table_at(filled, at, size, depth - 1)
         parts.append(part)
-    return tuple(parts), at
+    return parts, at

@@ -48,8 +48,8 @@ class World:
         return worth_of(expr, self, start)
 
     def __eq__(self, other):
-        return (isinstance(other, World) and self.size == other.size and self.steps == other.steps
-                and self.tables == other.tables)
+        # The keys of the tables tell the steps.
+        return isinstance(other, World) and self.size == other.size and self.tables == other.tables
 
 
 def worlds(steps, size, traits=None):

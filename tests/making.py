@@ -83,3 +83,15 @@ def nested_table(made, size, depth, place=()):
     if depth == 0:
         return made[place]
     return [nested_table(made, size, depth - 1, (*place, at)) for at in range(size)]
+
+
+def entry(table, place):
+    """The result that a table has for the values of its arguments."""
+    for at in place:
+        table = table[at]
+    return table
+
+
+def applied(table):
+    """The function that looks its values up in the table."""
+    return lambda *values: entry(table, values)

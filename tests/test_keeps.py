@@ -8,6 +8,7 @@ from knownways.steps import Step
 from knownways.traits import Trait, Traits
 from knownways.worlds import World, worlds
 from tests.helpers import Case
+from tests.making import entry
 
 U, V = Step("u", "+"), Step("v", "+")
 M, N = Step("m", "++"), Step("n", "++")
@@ -33,12 +34,6 @@ def has(world, trait):
         return not [(v, w) for v, w in pairs if (one[v] <= w) is not (v <= other[w])]
     return not [place for place in product(values, repeat=len(trait.steps[0]))
                 if not entry(one, place) <= entry(other, place)]
-
-
-def entry(table, place):
-    for at in place:
-        table = table[at]
-    return table
 
 
 class Keeps(Case):

@@ -153,6 +153,16 @@ class Language(unittest.TestCase):
                     if isinstance(row, ast.Name) and isinstance(row.ctx, ast.Store):
                         self.assertNotIn(row.id, kept, path)
 
+    def test_no_index_has_a_star(self):
+        for name, node in nodes_of(ast.Subscript):
+            self.assertEqual([row for row in ast.walk(node.slice) if isinstance(row, ast.Starred)], [], name)
+
+    def test_no_function_has_the_name_of_a_generator(self):
+        functions = [node for _, node in nodes_of(ast.FunctionDef)]
+        yielding = [node.name for node in functions if any(isinstance(row, (ast.Yield, ast.YieldFrom)) for row in ast.walk(node))]
+        for name in yielding:
+            self.assertEqual([node.name for node in functions].count(name), 1, name)
+
 
 if __name__ == "__main__":
     unittest.main()

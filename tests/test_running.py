@@ -12,7 +12,7 @@ from knownways.running import Ending, run
 from knownways.steps import Step
 from knownways.worlds import World
 from tests.helpers import F, Case, anything
-from tests.making import Making
+from tests.making import Making, applied
 
 U, D, M = Step("u", "+"), Step("d", "-"), Step("m", "++")
 WORLD = World(4, [(U, (1, 2, 3, 3)), (D, (3, 2, 1, 0)),
@@ -50,15 +50,6 @@ def rows_in_python(program):
         opened += [words[0]] if words[0] in ("if", "still") else []
         at += 1
     return rows + ["    return None, None"]
-
-
-def applied(table):
-    def call(*values):
-        found = table
-        for at in values:
-            found = found[at]
-        return found
-    return call
 
 
 def done(program, world, start):

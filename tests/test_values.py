@@ -8,7 +8,7 @@ from knownways.exprs import named
 from knownways.steps import Step
 from knownways.worlds import World
 from tests.helpers import Case, anything
-from tests.making import NAMES, STEPS, Making
+from tests.making import NAMES, STEPS, Making, applied
 
 U, D, M = Step("u", "+"), Step("d", "-"), Step("m", "++")
 T = Step("t", "++?")
@@ -24,16 +24,6 @@ def value(expr, world, start):
     # A name and a step may be called alike.
     text = re.sub(r"([a-z]+)\(", r"of_\1(", str(expr))
     return eval(text, {"of_lesser": min, "of_greater": max, **known}, dict(start))
-
-
-def applied(table):
-    """The function that looks its values up in the table."""
-    def call(*values):
-        found = table
-        for at in values:
-            found = found[at]
-        return found
-    return call
 
 
 class Worth(Case):

@@ -7,7 +7,7 @@ from knownways.errors import InvalidWorld, NoStep
 from knownways.steps import Step
 from knownways.worlds import World
 from tests.helpers import F, G, H, Case, anything, nested, no_steps, package_objects
-from tests.making import STEPS, Making
+from tests.making import STEPS, Making, entry
 
 A, B = Step("a", "+"), Step("b", "??")
 TWO = ((0, 0, 1), (0, 1, 2), (2, 2, 2))
@@ -47,12 +47,6 @@ def goes(table, ways):
             if (way == "+" and low > high) or (way == "-" and low < high):
                 return False
     return True
-
-
-def entry(table, place):
-    for at in place:
-        table = table[at]
-    return table
 
 
 class Made(Case):

@@ -15,56 +15,74 @@ class Ending:
         return isinstance(other, Ending) and self.refused == other.refused and self.held == other.held
 
 
+class Course:
+    """What a run has done so far."""
+
+    def __init__(self, world, start):
+        self.world = world
+        self.held = dict(start)
+        self.refused = None
+        self.at = None
+        # The numbers of the Ifs it came to, each with the side it entered.
+        self.entered = []
+
+
 def run(program, world, start):
     """The ending of a run of the program in the world from the start."""
     check_start(world, program, start)
-    held = dict(start)
-    at = _run_rows(program.rows, 0, world, held)
-    refused = None if at is None else program[at].word
-    return Ending(refused, at, held)
+    course = course_of(program, world, start)
+    return Ending(course.refused, course.at, course.held)
 
 
-def _run_rows(rows, at, world, held):
-    """Runs rows, the first of which has this number; the number of the row that refused, or None."""
+def course_of(program, world, start):
+    """The course of a whole run from a start that fits."""
+    course = Course(world, start)
+    _run_rows(program.rows, 0, course)
+    return course
+
+
+def _run_rows(rows, at, course):
+    """Runs rows, the first of which has this number, until one of them refuses."""
     for row in rows:
-        refused_at = _run_row(row, at, world, held)
-        if refused_at is not None:
-            return refused_at
+        if course.at is None:
+            _run_row(row, at, course)
         at += row.size
-    return None
 
 
-def _run_row(row, at, world, held):
+def _run_row(row, at, course):
     if row.kind == "refuse":
-        return at
-    if row.kind == "if":
-        return _run_side(row, at + 1, world, held)
-    if row.kind == "still":
-        _run_loop(row.rows, world, held)
+        course.at = at
+        course.refused = row.word
+    elif row.kind == "if":
+        _run_side(row, at, course)
+    elif row.kind == "still":
+        _run_loop(row.rows, course)
     else:
-        _set_worth(row, world, held)
-    return None
+        _set_worth(row, course)
 
 
-def _run_side(row, at, world, held):
-    """Runs one side of an If, whose rows behind it begin with this number."""
-    if worth_of(row.left, world, held) <= worth_of(row.right, world, held):
-        return _run_rows(row.rows, at, world, held)
-    return _run_rows(row.others, at + sum([inner.size for inner in row.rows]), world, held)
+def _run_side(row, at, course):
+    side = worth_of(row.left, course.world, course.held) <= worth_of(row.right, course.world, course.held)
+    course.entered.append((at, side))
+    if side:
+        _run_rows(row.rows, at + 1, course)
+    else:
+        # The numbers of the others begin behind those of the rows.
+        _run_rows(row.others, at + 1 + sum([inner.size for inner in row.rows]), course)
 
 
-def _run_loop(rows, world, held):
+def _run_loop(rows, course):
     before = None
-    while held != before:
-        before = dict(held)
+    while course.held != before:
+        before = dict(course.held)
         for row in rows:
-            _set_worth(row, world, held)
+            _set_worth(row, course)
 
 
-def _set_worth(row, world, held):
-    worth = worth_of(row.expr, world, held)
+def _set_worth(row, course):
+    worth = worth_of(row.expr, course.world, course.held)
     if row.kind == "raise":
-        worth = max(held[row.name], worth)
+        worth = max(course.held[row.name], worth)
     if row.kind == "lower":
-        worth = min(held[row.name], worth)
-    held[row.name] = worth
+        worth = min(course.held[row.name], worth)
+    course.held[row.name] = worth

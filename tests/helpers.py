@@ -3,7 +3,9 @@
 import unittest
 
 from knownways import errors
+from knownways.claims import Alike, NeverRefuses, Rises
 from knownways.comparisons import Comparison
+from knownways.deciding import breach
 from knownways.exprs import named
 from knownways.programs import Draft, Program
 from knownways.rows import If, Lower, Put, Raise, Refuse, Still
@@ -56,7 +58,8 @@ def package_objects():
     """Objects of the package that are neither steps, traits, expressions nor rows."""
     return [Chain(), Chain(F), Chain(F, G), Traits(), Traits(Trait("up", F)), Program(),
             Program([Put("x", "y")]), Draft(), World(2, [(F, (0, 1))]), run(Program(), World(1, []), {}),
-            Comparison("x", "<=", F("x")), errors.InvalidStep("name"), errors.NoRow(3), errors.Impossible(),
+            Comparison("x", "<=", F("x")), Alike(Program(), Program(), "x"), Rises(Program(), "x", "y"),
+            breach(NeverRefuses(Program([Refuse("no")]))), errors.InvalidStep("name"), errors.NoRow(3), errors.Impossible(),
             errors.WaysError(), [Program()], (Chain(F), [Traits()])]
 
 

@@ -2,8 +2,10 @@
 
 import unittest
 
+from knownways.claims import Alike, Always, NeverAbove, NeverRefuses, NeverTaken, Rises
 from knownways.comparisons import Comparison
-from knownways.errors import InvalidStart, InvalidText, NoName, NoRow, NoStep
+from knownways.deciding import breach, holds
+from knownways.errors import InvalidClaim, InvalidStart, InvalidText, NoName, NoRow, NoStep
 from knownways.exprreader import read_expr
 from knownways.exprs import named
 from knownways.programs import Draft, Program
@@ -12,6 +14,8 @@ from knownways.rows import If, Lower, Put, Raise, Refuse, Row, Still
 from knownways.running import run
 from knownways.steps import Chain, Step
 from knownways.traits import Trait, Traits
+from knownways.trees import tree, tree_holds
+from knownways.treetexts import read_tree, show_tree
 from knownways.words import is_integer, is_name, is_value
 from knownways.worlds import World, worlds
 from tests.helpers import F, G, H, K, Case, anything, no_names, some_rows
@@ -49,7 +53,9 @@ class Unchanged(Case):
         things = [F, Chain(F, G), Trait("up", F), Traits(Trait("up", F), Trait("mean", Step("m", "++"))), H("x", F("y")),
                   named("x") & "y", put, Program([put, If("x", "y", [put], [Refuse("no")])]),
                   World(2, [[F, [0, 1]], [H, [[0, 0], [1, 0]]]]), Comparison(F("x"), "<=", "y"),
-                  run(Program([Refuse("no")]), World(1, []), {"x": 0}), *some_rows()]
+                  run(Program([Refuse("no")]), World(1, []), {"x": 0}),
+                  Always(Program([put]), Comparison("x", "<=", F("y")), supposed=[Comparison("z", "<", F("x"))]),
+                  Rises(Program([put]), "x", "y"), breach(Rises(Program([put]), "x", "z")), *some_rows()]
         seen = [self.seen(thing) for thing in things]
         return things, seen
 
@@ -58,7 +64,7 @@ class Unchanged(Case):
 
     def test_no_call_changes_an_object(self):
         things, seen = self.everything()
-        step, chain, trait, traits, expr, _, row, program, world, told, end = things[:11]
+        step, chain, trait, traits, expr, _, row, program, world, told, end, always, rises, found = things[:14]
         kept = Traits(trait)
         start = {"x": 0, "y": 1, "z": 1}
         for _ in range(2):
@@ -69,16 +75,22 @@ class Unchanged(Case):
                     trait in traits, traits.is_part_of(traits), expr == step, str(program),
                     read(str(program), [F, H]), world[F], world.keeps(kept), world.value(step("x"), start),
                     run(program, world, start), list(worlds([F, G], 2, kept)), told.holds(world, start), str(told),
-                    world == told, end == run(Program(), world, start)]
+                    world == told, end == run(Program(), world, start), holds(always, kept), breach(always, traits),
+                    tree(rises, traits), tree_holds(rises, None, ()), always.under(told), rises == always, str(always),
+                    always.fails(world, start), rises.fails(found.world, found.start, found.other)]
             draft = Draft()
             draft.add(row)
             draft["x"] = expr
-            self.assertEqual(len(made), 38)
+            self.assertEqual(len(made), 47)
             self.check_error(NoRow, 99, lambda rows, at: rows[at], program, 99)
             self.check_error(NoStep, "g", world.value, G("x"), start)
             self.check_error(NoName, "a", run, Program([Put("a", "a")]), world, start)
             self.check_error(InvalidStart, "q", told.holds, world, {**start, "q": None})
             self.check_error(InvalidText, 1, read, "x = y\nx", [F])
+            self.check_error(InvalidClaim, "step", always.under, Comparison("x", "<", Step("f", "-")("x")))
+            self.check_error(InvalidClaim, "comparison", always.under, told, None)
+            self.check_error(InvalidStart, "y", rises.fails, world, start, 5)
+            self.check_error(InvalidClaim, "step", holds, always, Traits(Trait("mean", Step("f", "++"))))
             self.assertEqual(list(start.items()), [("x", 0), ("y", 1), ("z", 1)])
             self.assertEqual([self.seen(thing) for thing in things], seen)
 
@@ -86,7 +98,10 @@ class Unchanged(Case):
         first, _ = self.everything()
         again, _ = self.everything()
         for one, other in zip(first, again):
-            self.check_equal(one, other)
+            if one.__class__.__name__ == "Breach":
+                self.assertEqual((one.world, one.start, one.other), (other.world, other.start, other.other))
+            else:
+                self.check_equal(one, other)
 
     def test_attributes_are_kept_apart(self):
         rows = [Put("x", "y")]
@@ -106,12 +121,16 @@ class Unchanged(Case):
         self.check_equal(read("x = f(x)", [F, G]), read("x = f(x)", (F, G)))
         self.check_equal(World(2, [[F, [0, 1]]]), World(2, ((F, (0, 1)),)))
         self.assertEqual([world[F] for world in worlds([F], 2)], [world[F] for world in worlds((F,), 2)])
+        told = [Comparison("x", "<", "y"), Comparison("y", "<", "z")]
+        self.check_equal(NeverRefuses(Program(), supposed=told), NeverRefuses(Program(), supposed=tuple(told)))
 
     def test_objects_of_unlike_classes_are_unlike(self):
         self.check_all_unlike([F, Chain(F), Trait("up", F), Traits(Trait("up", F)), F("x"), named("f"), Put("f", "x"),
                                Raise("f", "x"), Lower("f", "x"), Program([Put("f", "x")]), Refuse("f"), Program(),
                                Chain(), Traits(), World(1, []), run(Program(), World(1, []), {}),
-                               Comparison("f", "<", "x"), (), [], {}, "f", 0, None])
+                               Comparison("f", "<", "x"), Always(Program(), Comparison("f", "<", "x")),
+                               NeverRefuses(Program()), Alike(Program(), Program()), NeverAbove(Program(), Program(), "f"),
+                               (), [], {}, "f", 0, None])
 
 
 class BeyondTheLimits(Case):
@@ -146,6 +165,22 @@ class BeyondTheLimits(Case):
         text = "\n".join(["if x <= y"] * 60 + ["x = y"] + ["end"] * 60)
         self.assertEqual(str(read(text, [])), text)
         self.assertEqual(len(list(worlds([F, G], 5, Traits(Trait("up", F), Trait("down", F))))), 126)
+
+    def test_there_is_no_error_in_claims(self):
+        expr = F("x")
+        for _ in range(11):
+            expr = F(expr)
+        rising = Comparison("x", "<", F("x"))
+        self.assertEqual(breach(NeverRefuses(Program([Refuse("no")]), supposed=[rising, Comparison("x", "<", expr)])).world.size, 2)
+        self.assertTrue(holds(Always(Program(), Comparison("x", "<=", F("x")), supposed=[Comparison("x", "<=", expr)])))
+        row = If("x", "y", [])
+        for _ in range(8):
+            row = If("x", "y", [row], [Put("a", "b"), Put("c", "d")])
+        claim = NeverTaken(Program([Put("e", "g"), row] * 6), 1, True)
+        self.assertEqual((len(claim.names), breach(claim).world.size), (8, 1))
+        shown = tree(NeverRefuses(claim.p))
+        self.assertTrue(tree_holds(NeverRefuses(claim.p), None, shown))
+        self.assertEqual(read_tree(show_tree(shown)), shown)
 
 
 if __name__ == "__main__":

@@ -110,6 +110,61 @@ raises InvalidWorld('ways')
 >>> every = list(worlds([f], 2))
 >>> (len(every), every[1][f])
 (3, (0, 1))
+
+>>> from knownways.steps import Step
+>>> from knownways.claims import Always
+>>> from knownways.comparisons import Comparison
+>>> from knownways.deciding import holds
+>>> from knownways.programs import Program
+>>> f = Step('f', '+')
+>>> one = Always(Program(), Comparison('x', '<=', f('x')), supposed=[Comparison('x', '<=', f(f('x')))])
+>>> other = Always(Program(), Comparison('x', '<=', f('x')))
+>>> (holds(one), holds(other))
+(True, False)
+
+>>> from knownways.steps import Step
+>>> from knownways.claims import Always
+>>> from knownways.comparisons import Comparison
+>>> from knownways.programs import Program
+>>> from knownways.trees import tree_holds
+>>> f = Step('f', '+')
+>>> one = Always(Program(), Comparison('x', '<=', f('x')), supposed=[Comparison('x', '<=', f(f('x')))])
+>>> (tree_holds(one, None, ('x', 'f(x)', (), ())), tree_holds(one, None, ()))
+(True, False)
+
+>>> from knownways.steps import Step
+>>> from knownways.claims import Always
+>>> from knownways.comparisons import Comparison
+>>> from knownways.deciding import breach
+>>> from knownways.programs import Program
+>>> f = Step('f', '+')
+>>> found = breach(Always(Program(), Comparison('x', '<=', f('x'))))
+>>> (found.world.size, found.world[f], found.start, found.other)
+(2, (0, 0), {'x': 1}, None)
+
+>>> from knownways.treetexts import read_tree, show_tree
+>>> text = show_tree(('x', 'f(x)', (), ()))
+>>> (text, read_tree(text))
+('x <= f(x)\n  so\nf(x) < x\n  so', ('x', 'f(x)', (), ()))
+
+>>> from knownways.steps import Step
+>>> from knownways.claims import NeverTaken
+>>> from knownways.deciding import holds
+>>> from knownways.reader import read
+>>> from knownways.traits import Trait, Traits
+>>> f = Step('f', '+')
+>>> claim = NeverTaken(read('if x <= f(x)\nx = f(x)\nend', [f]), 0, False)
+>>> (holds(claim, Traits(Trait('up', f))), holds(claim))
+(True, False)
+
+>>> from knownways.steps import Step
+>>> from knownways.claims import NeverAbove
+>>> from knownways.comparisons import Comparison
+>>> from knownways.programs import Program
+>>> from knownways.rows import Put
+>>> f = Step('f', '+')
+>>> str(NeverAbove(Program(), Program([Put('x', f('x'))]), 'x', supposed=[Comparison('x', '<', 'y')]))
+'above x\nsuppose x < y\nagainst\nx = f(x)'
 '''
 
 
@@ -135,7 +190,7 @@ class Examples(unittest.TestCase):
 
     def test_each_example(self):
         examples = EXAMPLES.strip().split("\n\n")
-        self.assertEqual(len(examples), 16)
+        self.assertEqual(len(examples), 22)
         for example in examples:
             rows, line = told(example)
             with self.subTest(rows[-1]):

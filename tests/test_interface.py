@@ -26,6 +26,13 @@ LISTED = {
     "worlds": {"World": ["size", "tables"], "worlds": ["steps", "size", "traits=None"]},
     "running": {"run": ["program", "world", "start"], "Ending": None},
     "comparisons": {"Comparison": ["left", "sign", "right"]},
+    "claims": {"Claim": None, "Alike": ["p", "q", "*names", "supposed=()"],
+               "NeverAbove": ["p", "q", "name", "supposed=()"], "Rises": ["p", "out", "into", "supposed=()"],
+               "Falls": ["p", "out", "into", "supposed=()"], "NeverRefuses": ["p", "*words", "supposed=()"],
+               "Always": ["p", "comparison", "supposed=()"], "NeverTaken": ["p", "at", "side", "supposed=()"]},
+    "deciding": {"holds": ["claim", "traits=None"], "breach": ["claim", "traits=None"], "Breach": None},
+    "trees": {"tree": ["claim", "traits=None"], "tree_holds": ["claim", "traits", "told"]},
+    "treetexts": {"show_tree": ["told"], "read_tree": ["text"]},
 }
 
 METHODS = {
@@ -37,6 +44,8 @@ METHODS = {
     ("worlds", "World", "keeps"): ["traits"],
     ("worlds", "World", "value"): ["expr", "start"],
     ("comparisons", "Comparison", "holds"): ["world", "start"],
+    ("claims", "Claim", "under"): ["*comparisons"],
+    ("claims", "Claim", "fails"): ["world", "start", "other=None"],
 }
 
 
@@ -66,6 +75,12 @@ class Interface(unittest.TestCase):
         for (module, name, method), expected in METHODS.items():
             kind = getattr(import_module("knownways." + module), name)
             self.assertEqual(parameters(vars(kind)[method], skip=1), expected, (name, method))
+
+    def test_suppositions_are_passed_by_name_only(self):
+        for name in LISTED["claims"]:
+            if name != "Claim":
+                listed = inspect.signature(getattr(import_module("knownways.claims"), name)).parameters
+                self.assertIs(listed["supposed"].kind, inspect.Parameter.KEYWORD_ONLY)
 
     def test_the_package_file_has_a_docstring_only(self):
         rows = tree_of("__init__").body

@@ -32,7 +32,6 @@ class Facts:
     def enclose(self):
         """Adds the least and the greatest value that a world has, and what back traits ask of them."""
         least, greatest = self.plain_term("least"), self.plain_term("greatest")
-        self.tell(least, greatest, False)
         self.ends = [least, greatest]
         for step in self.known.steps:
             if step.name in self.known.uppers:

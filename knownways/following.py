@@ -4,8 +4,6 @@ from knownways.errors import InvalidClaim
 from knownways.gathering import all_steps, share_a_name
 from knownways.traits import Traits
 
-MAY_LOOP = ("up", "below")
-
 
 class Known:
     """What is known of steps, by their names."""
@@ -39,7 +37,7 @@ class Known:
         for concerned in [name, *self.over.get(name, [])]:
             if concerned in self.uppers or concerned in self.lowers:
                 return False
-            if any([word not in MAY_LOOP and self.has(word, concerned) for word in self.having]):
+            if any([word != "up" and self.has(word, concerned) for word in self.having]):
                 return False
         return True
 

@@ -5,13 +5,17 @@ import unittest
 from knownways.claims import Alike, Always, NeverAbove, NeverRefuses, NeverTaken, Rises
 from knownways.comparisons import Comparison
 from knownways.deciding import breach, holds
+from knownways.desk import Desk
 from knownways.errors import InvalidClaim, InvalidStart, InvalidText, NoName, NoRow, NoStep
 from knownways.exprreader import read_expr
 from knownways.exprs import named
+from knownways.needed import greatest_failing, least_traits
+from knownways.orders import best_orders, compare_chains
 from knownways.programs import Draft, Program
 from knownways.reader import read
 from knownways.rows import If, Lower, Put, Raise, Refuse, Row, Still
 from knownways.running import run
+from knownways.settling import least_rows, rounds, settle_alike
 from knownways.steps import Chain, Step
 from knownways.traits import Trait, Traits
 from knownways.trees import tree, tree_holds
@@ -77,11 +81,14 @@ class Unchanged(Case):
                     run(program, world, start), list(worlds([F, G], 2, kept)), told.holds(world, start), str(told),
                     world == told, end == run(Program(), world, start), holds(always, kept), breach(always, traits),
                     tree(rises, traits), tree_holds(rises, None, ()), always.under(told), rises == always, str(always),
-                    always.fails(world, start), rises.fails(found.world, found.start, found.other)]
+                    always.fails(world, start), rises.fails(found.world, found.start, found.other),
+                    least_traits(always, kept), greatest_failing(rises, traits), best_orders([step], kept),
+                    compare_chains(chain, chain, kept), settle_alike([Raise("x", step("x"))], [Raise("x", step("y"))], kept),
+                    least_rows([Raise("x", step("x"))], kept), rounds([Raise("x", step("y"))]), self.at_a_desk(kept, told, always)]
             draft = Draft()
             draft.add(row)
             draft["x"] = expr
-            self.assertEqual(len(made), 47)
+            self.assertEqual(len(made), 55)
             self.check_error(NoRow, 99, lambda rows, at: rows[at], program, 99)
             self.check_error(NoStep, "g", world.value, G("x"), start)
             self.check_error(NoName, "a", run, Program([Put("a", "a")]), world, start)
@@ -93,6 +100,14 @@ class Unchanged(Case):
             self.check_error(InvalidClaim, "step", holds, always, Traits(Trait("mean", Step("f", "++"))))
             self.assertEqual(list(start.items()), [("x", 0), ("y", 1), ("z", 1)])
             self.assertEqual([self.seen(thing) for thing in things], seen)
+
+    def at_a_desk(self, traits, told, claim):
+        desk = Desk(traits)
+        desk.suppose(told)
+        desk.traits = traits
+        with desk.supposing(told):
+            desk.take_back()
+        return desk.is_sure(told), desk.compare(told.left, told.right), desk.holds(claim), desk.breach(claim)
 
     def test_the_same_call_gives_an_equal_result(self):
         first, _ = self.everything()
@@ -123,6 +138,11 @@ class Unchanged(Case):
         self.assertEqual([world[F] for world in worlds([F], 2)], [world[F] for world in worlds((F,), 2)])
         told = [Comparison("x", "<", "y"), Comparison("y", "<", "z")]
         self.check_equal(NeverRefuses(Program(), supposed=told), NeverRefuses(Program(), supposed=tuple(told)))
+        rows = [Raise("x", F("x")), Raise("y", F("x"))]
+        self.assertEqual(least_rows(rows), least_rows(tuple(rows)))
+        self.assertIs(settle_alike(rows, tuple(rows)), settle_alike(tuple(rows), rows))
+        self.assertEqual(rounds(rows[1:]), rounds(tuple(rows[1:])))
+        self.assertEqual(best_orders([F]), best_orders((F,)))
 
     def test_objects_of_unlike_classes_are_unlike(self):
         self.check_all_unlike([F, Chain(F), Trait("up", F), Traits(Trait("up", F)), F("x"), named("f"), Put("f", "x"),

@@ -227,6 +227,9 @@ class KnownAnswers(Decided):
         self.check_size(3, always("x <= f(x)", "x <= y", "g(x) < y"), "back f g")
         self.check_size(3, impossible("x < f(y)", "y <= f(x)"), "back f g")
         self.check_size(2, impossible("g(x) < y", "y <= g(y)"), "back f g")
+        self.check_size(3, always("f(z) <= z", p=program("x &= y", "z = d(x)")), "back f g")
+        self.check_size(3, always("z <= g(z)", p=program("x &= y", "z = d(x)")), "back f g")
+        self.check_size(2, always("f(z) <= z", p=program("x &= y", "z = d(x)")))
 
     def test_one_value_will_do(self):
         self.check_size(1, impossible())

@@ -148,6 +148,69 @@ raises InvalidWorld('ways')
 ('x <= f(x)\n  so\nf(x) < x\n  so', ('x', 'f(x)', (), ()))
 
 >>> from knownways.steps import Step
+>>> from knownways.claims import NeverAbove
+>>> from knownways.needed import greatest_failing, least_traits
+>>> from knownways.programs import Program
+>>> from knownways.rows import Put
+>>> from knownways.traits import Trait, Traits
+>>> f = Step('f', '+')
+>>> g = Step('g', '+')
+>>> claim = NeverAbove(Program(), Program([Put('x', f('x'))]), 'x')
+>>> told = Traits(Trait('up', f), Trait('up', g), Trait('below', g, f))
+>>> least, failing = least_traits(claim, told), greatest_failing(claim, told)
+>>> (len(least), str(least[0]), str(least[1]), len(failing), str(failing[0]), str(failing[1]))
+(2, 'up f', 'below g f\nup g', 2, 'below g f', 'up g')
+
+>>> from knownways.steps import Step
+>>> from knownways.rows import Raise
+>>> from knownways.settling import least_rows, settle_alike
+>>> from knownways.traits import Trait, Traits
+>>> f = Step('f', '+')
+>>> g = Step('g', '+')
+>>> rows = [Raise('x', f('x')), Raise('x', g('x'))]
+>>> (least_rows(rows, Traits(Trait('below', f, g))), least_rows(rows), settle_alike(rows, [rows[1], rows[0]]))
+(((1,),), ((0, 1),), True)
+
+>>> from knownways.steps import Step
+>>> from knownways.rows import Raise
+>>> from knownways.settling import rounds
+>>> f = Step('f', '+')
+>>> g = Step('g', '+')
+>>> one, other = Raise('x', f('y')), Raise('y', g('z'))
+>>> (rounds([one, other]), rounds([other, one]), rounds([Raise('x', f('x'))]))
+(2, 1, None)
+
+>>> from knownways.steps import Step
+>>> from knownways.orders import best_orders, compare_chains
+>>> from knownways.steps import Chain
+>>> from knownways.traits import Trait, Traits
+>>> f = Step('f', '+')
+>>> g = Step('g', '+')
+>>> same = Traits(Trait('settled', f))
+>>> (compare_chains(Chain(f), Chain(g)), compare_chains(Chain(f, f), Chain(f), same), best_orders([f, g]), len(best_orders([f, g], Traits(Trait('up', f), Trait('down', f)))))
+('?', '==', (), 2)
+
+>>> from knownways.steps import Step
+>>> from knownways.comparisons import Comparison
+>>> from knownways.desk import Desk
+>>> from knownways.traits import Trait, Traits
+>>> f = Step('f', '+')
+>>> desk = Desk(Traits(Trait('up', f)))
+>>> desk.suppose(Comparison(f('x'), '<=', 'y'))
+>>> (desk.compare('x', 'y'), desk.compare('y', 'x'), len(desk), desk.is_sure(Comparison('x', '<', 'y')))
+('<=', '>=', 1, False)
+
+>>> from knownways.steps import Step
+>>> from knownways.comparisons import Comparison
+>>> from knownways.desk import Desk
+>>> from knownways.traits import Trait, Traits
+>>> f = Step('f', '+')
+>>> desk = Desk(Traits(Trait('up', f)))
+>>> desk.suppose(Comparison(f('x'), '<=', 'y'))
+>>> desk.suppose(Comparison('y', '<', 'x'))
+raises Impossible
+
+>>> from knownways.steps import Step
 >>> from knownways.claims import NeverTaken
 >>> from knownways.deciding import holds
 >>> from knownways.reader import read
@@ -190,7 +253,7 @@ class Examples(unittest.TestCase):
 
     def test_each_example(self):
         examples = EXAMPLES.strip().split("\n\n")
-        self.assertEqual(len(examples), 22)
+        self.assertEqual(len(examples), 28)
         for example in examples:
             rows, line = told(example)
             with self.subTest(rows[-1]):

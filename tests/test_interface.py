@@ -33,6 +33,11 @@ LISTED = {
     "deciding": {"holds": ["claim", "traits=None"], "breach": ["claim", "traits=None"], "Breach": None},
     "trees": {"tree": ["claim", "traits=None"], "tree_holds": ["claim", "traits", "told"]},
     "treetexts": {"show_tree": ["told"], "read_tree": ["text"]},
+    "needed": {"least_traits": ["claim", "traits"], "greatest_failing": ["claim", "traits"]},
+    "settling": {"settle_alike": ["rows", "others", "traits=None"], "least_rows": ["rows", "traits=None"],
+                 "rounds": ["rows"]},
+    "orders": {"best_orders": ["steps", "traits=None"], "compare_chains": ["one", "other", "traits=None"]},
+    "desk": {"Desk": ["traits=None"]},
 }
 
 METHODS = {
@@ -46,6 +51,15 @@ METHODS = {
     ("comparisons", "Comparison", "holds"): ["world", "start"],
     ("claims", "Claim", "under"): ["*comparisons"],
     ("claims", "Claim", "fails"): ["world", "start", "other=None"],
+    ("desk", "Desk", "change_traits"): ["traits"],
+    ("desk", "Desk", "suppose"): ["comparison"],
+    ("desk", "Desk", "take_back"): [],
+    ("desk", "Desk", "supposing"): ["comparison"],
+    ("desk", "Desk", "within"): ["comparison", "work"],
+    ("desk", "Desk", "compare"): ["left", "right"],
+    ("desk", "Desk", "is_sure"): ["comparison"],
+    ("desk", "Desk", "holds"): ["claim"],
+    ("desk", "Desk", "breach"): ["claim"],
 }
 
 

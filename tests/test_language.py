@@ -12,7 +12,7 @@ FILES = sorted(FOLDER.rglob("*.py"))
 
 ALLOWED_BUILTINS = {
     "len", "range", "enumerate", "zip", "min", "max", "sum", "abs", "sorted", "reversed", "int", "str", "bool", "list",
-    "tuple", "dict", "set", "isinstance", "ord", "repr", "any", "all", "divmod", "iter", "next", "ValueError",
+    "tuple", "dict", "set", "isinstance", "ord", "repr", "any", "all", "divmod", "iter", "next", "property", "ValueError",
     "TypeError", "KeyError", "IndexError", "LookupError", "ZeroDivisionError", "StopIteration", "NotImplemented"}
 ALLOWED_METHODS = {
     "__init__", "__eq__", "__repr__", "__str__", "__len__", "__enter__", "__exit__", "__call__", "__iter__", "__lt__",
@@ -54,6 +54,10 @@ def imports_of(tree):
             if isinstance(node, ast.ImportFrom)}
 
 
+def is_setter(function):
+    return [ast.unparse(one) for one in function.decorator_list] == [function.name + ".setter"]
+
+
 class Language(unittest.TestCase):
 
     def test_the_folder_holds_python_files_only(self):
@@ -85,6 +89,31 @@ class Language(unittest.TestCase):
     def test_barred_statements(self):
         self.assertEqual(nodes_of(BARRED_NODES), [])
         self.assertEqual([node for _, node in nodes_of(ast.ClassDef) if node.decorator_list], [])
+
+    def test_decorators(self):
+        for name, node in nodes_of(ast.ClassDef):
+            for row in node.body:
+                if isinstance(row, ast.FunctionDef) and row.decorator_list and not is_setter(row):
+                    self.assertEqual([ast.unparse(one) for one in row.decorator_list], ["property"], (name, row.name))
+        marked = [node for _, node in nodes_of(ast.FunctionDef) if node.decorator_list]
+        inside = [row for _, node in nodes_of(ast.ClassDef) for row in node.body if getattr(row, "decorator_list", None)]
+        self.assertEqual(len(marked), len(inside))
+
+    def test_attributes_have_no_names_of_properties(self):
+        properties = {node.name for _, node in nodes_of(ast.FunctionDef) if node.decorator_list}
+        self.assertEqual(properties, {"traits"})
+        for name, node in nodes_of(ast.Attribute):
+            if isinstance(node.ctx, ast.Store):
+                self.assertNotIn(node.attr, properties, name)
+
+    def test_names_that_are_not_used(self):
+        barred = {"register", "mro", "elements", "open", "input", "law", "version_info", "add_note", "dir", "eval", "exec", "exit",
+                  "id", "os", "quit", "super", "type", "vars", "sys", "compile", "help"}
+        for path, tree in trees():
+            self.assertEqual(barred & set(names_bound(tree)), set(), path)
+        for kind, attribute in ((ast.Attribute, "attr"), (ast.FunctionDef, "name"), (ast.keyword, "arg"), (ast.arg, "arg")):
+            for name, node in nodes_of(kind):
+                self.assertNotIn(getattr(node, attribute), barred, name)
 
     def test_imports_name_the_file_that_defines_the_name(self):
         by_name = {"knownways." + path.stem: tree for path, tree in trees()}
@@ -121,7 +150,7 @@ class Language(unittest.TestCase):
 
     def test_double_underscore_methods(self):
         for name, node in nodes_of(ast.ClassDef):
-            methods = [row.name for row in node.body if isinstance(row, ast.FunctionDef)]
+            methods = [row.name for row in node.body if isinstance(row, ast.FunctionDef) and not is_setter(row)]
             for method in methods:
                 self.assertTrue(not method.startswith("__") or method in ALLOWED_METHODS, (name, method))
             if "__getitem__" in methods:

@@ -230,6 +230,10 @@ class KnownAnswers(Decided):
         self.check_size(3, always("f(z) <= z", p=program("x &= y", "z = d(x)")), "back f g")
         self.check_size(3, always("z <= g(z)", p=program("x &= y", "z = d(x)")), "back f g")
         self.check_size(2, always("f(z) <= z", p=program("x &= y", "z = d(x)")))
+        for test, row, goal in (("x <= f(x)", "z = d(x)", "f(z) <= z"), ("g(x) <= x", "z = d(x)", "z <= g(z)")):
+            # What is worked out behind a comparison is not below the lowest value either, nor above the highest.
+            self.check_size(4, always(goal, p=program("if " + test, "refuse no", "else", row, "end")), "back f g")
+            self.check_size(3, always(goal, p=program("if " + test, "refuse no", "else", row, "end")))
 
     def test_one_value_will_do(self):
         self.check_size(1, impossible())

@@ -4,7 +4,6 @@ from knownways.claims import Always
 from knownways.comparisons import Comparison
 from knownways.deciding import holds
 from knownways.errors import InvalidStep
-from knownways.following import known_of
 from knownways.gathering import all_steps, share_a_name
 from knownways.programs import Program
 from knownways.steps import Chain
@@ -16,7 +15,7 @@ def best_orders(steps, traits=None):
     """The orders of the steps whose result is never above that of any other order."""
     if any([len(step) != 1 for step in steps]):
         raise InvalidStep("chain")
-    _check_steps(steps, traits)
+    _check_names(steps)
     chains = [Chain(*order) for order in _orders(list(steps))]
     best = [chain for chain in chains if all([_is_never_above(chain, other, traits) for other in chains])]
     return tuple(sorted(best, key=lambda chain: [step.name for step in chain.steps]))
@@ -24,7 +23,7 @@ def best_orders(steps, traits=None):
 
 def compare_chains(one, other, traits=None):
     """Which sign always stands between the results of both chains."""
-    _check_steps(one.steps + other.steps, traits)
+    _check_names(one.steps + other.steps)
     low = _is_never_above(one, other, traits)
     high = _is_never_above(other, one, traits)
     if low and high:
@@ -41,11 +40,9 @@ def _orders(steps):
     return [(step, *rest) for at, step in enumerate(steps) for rest in _orders(steps[:at] + steps[at + 1:])]
 
 
-def _check_steps(steps, traits):
-    used = all_steps((), steps)
-    if share_a_name(used):
+def _check_names(steps):
+    if share_a_name(all_steps((), steps)):
         raise InvalidStep("name")
-    known_of(used, (), traits)
 
 
 def _is_never_above(one, other, traits):

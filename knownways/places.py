@@ -179,7 +179,6 @@ def _loop(place, told):
         begins = [(at, held[cell]) for at, cell in arguments]
         looping.append((step.name, place_set, tuple(begins)))
     facts.loops.append(Loop(tuple(looping), tuple(ends)))
-    facts.changed = True
     for (cell, _), (_, end) in zip(sets, ends):
         held[cell] = end
     place.at += 1

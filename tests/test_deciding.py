@@ -277,6 +277,9 @@ class KnownAnswers(Decided):
         self.check_holds(Alike(one, one * 2, "x"))
         self.check_holds(Rises(one, "x", "x"))
         self.check_holds(always("x == f(x)", p=one), "up f")
+        behind = program("still", "z |= g(z)", "end") + one
+        self.check_holds(always("x <= y", "x <= y", "f(f(y)) <= y", "g(z) <= z", p=behind))
+        self.check_size(4, always("x <= y", "x <= y", "f(f(x)) <= y", "g(z) <= z", p=behind))
         both = program("still", "x |= f(x)", "x |= g(x)", "end")
         self.check_holds(Alike(both, other, "x"), "below f g")
         self.check_size(3, Alike(both, one + other, "x"))

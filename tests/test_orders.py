@@ -45,6 +45,7 @@ class Compared(Case):
 
     def test_known_answers(self):
         self.check_compared(Chain(F), Chain(G), "?")
+        self.assertEqual((compare_chains(Chain(F), Chain(F)), compare_chains(Chain(F), Chain(G))), ("==", "?"))
         self.check_compared(Chain(F, F), Chain(F), "==", told("settled f"))
         self.check_compared(Chain(), Chain(), "==")
         self.check_compared(Chain(), Chain(F), "?")
@@ -130,6 +131,7 @@ class Best(Case):
             self.assertEqual(found, self.by_definition(steps, traits))
 
     def test_known_answers(self):
+        self.assertEqual((best_orders([F]), best_orders([F, G])), ((Chain(F),), ()))
         self.check_best([F], ["f"])
         self.check_best([Q], ["q"])
         self.check_best([F, G], [])

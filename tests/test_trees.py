@@ -170,6 +170,16 @@ class Rules(Trees):
         self.check_right(lacking.under(said("f(z) <= y"), said("y <= z")))
         self.check_wrong(lacking.under(said("y <= z")))
 
+    def test_9_bounds_behind_knots(self):
+        claim = always("x <= y", "x <= y", "f(f(y)) <= y", p=LOOP)
+        self.check_wrong(claim)
+        self.check_right(claim, ("f(y)", "y", (), ()))
+        self.check_wrong(claim, ("x", "f(y)", (), ()))
+        # The bound of an end is a bound for what is worked out of it, and for a loop behind it.
+        claim = always("g(x) <= g(y)", "x <= y", "f(y) <= y", "g(y) <= y", p=LOOP + program("still", "x |= g(x)", "end"))
+        self.check_right(claim)
+        self.check_wrong(always("g(x) <= g(y)", "x <= y", "f(y) <= y", p=LOOP + program("still", "x |= g(x)", "end")))
+
     def test_two_loops(self):
         for p, q in ((LOOP, LOOP), (LOOP, LOOP * 2), (LOOP * 2, LOOP), (LOOP, program("still", "x |= f(x)", "x |= f(x)", "end"))):
             self.check_right(Alike(p, q, "x"))
@@ -295,7 +305,7 @@ class Terms(Trees):
                      "m(x)", "m(x,y)", "m(x,  y)", "m(x, y, x)", "m(x, y), x", "m", "x'", "d(x)", "e(x)", "lesser(x, y)",
                      "greater(x, x)", "lesser", "x(y)", "f(z)", "f(X)", "end", "end(0, 0, x)", "end(x)", "f(x)\n", "\n", "m(x y)",
                      "(x)", "f[x]", "f(,)", "m(, )", "m(x, )", "1", "f(1)", "x & y", "f(x)f(x)", "xx", "xy", "f(x))", "((x",
-                     "if", "else", "f(lesser(x, y))", "'", "x''", "f'(x)", "f(x)'", "f(x')"):
+                     "if", "else", "f(lesser(x, y))", "least", "greatest", "f(least)", "'", "x''", "f'(x)", "f(x)'", "f(x')"):
             self.check_text(claim, text, False)
 
     def test_any_values_as_texts(self):
@@ -347,6 +357,9 @@ class Terms(Trees):
             self.check_wrong(claim, ("x", text, (), ()))
         for text in ("end(0, 0, x)", "f(end(0, 0, x))", "f(f(end(0, 0, x)))"):
             self.check_right(claim, (text, "x", (), ()))
+        for single in (NeverRefuses(LOOP), Always(LOOP, said("x <= x"))):
+            self.check_right(single, ("end(0, 0, x)", "x", (), ()))
+            self.check_wrong(single, ("end(1, 0, x)", "x", (), ()))
         both = Alike(LOOP, program("x = x", "still", "x |= f(x)", "y |= f(x)", "end"))
         for text in ("end(0, 0, x)", "end(1, 1, x)", "end(1, 1, y)", "f(end(1, 1, y))"):
             self.check_right(both, (text, "x", (), ()))
@@ -380,7 +393,10 @@ class Terms(Trees):
             for text in ("y'", "z'", "x''", "'x", "x ", "x '", "f(x)'", "f'(x)", "f(y')", "a'", "'"):
                 self.check_text(claim, text, False)
         self.check_wrong(always("x <= x", "y <= f(x)"), ("x'", "x", (), ()))
-        # The second value is not less.
+        # The second value is not less, but it may be the same.
+        claim = Rises(program("if x <= y", "else", "end"), "z", "x", supposed=[said("x == y")])
+        self.check_wrong(claim)
+        self.check_right(claim, ("x'", "y", (), ()))
         self.check_wrong(Rises(program("y = x"), "y", "x"), ("x", "x'", (), ("x", "y", (), ())))
         self.check_right(Rises(program("y = x"), "y", "x"), ("x'", "x", (), ()))
 

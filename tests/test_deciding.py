@@ -6,6 +6,7 @@ from knownways.claims import Alike, Always, Falls, NeverAbove, NeverRefuses, Nev
 from knownways.comparisons import Comparison
 from knownways.deciding import Breach, breach, holds
 from knownways.errors import InvalidClaim
+from knownways.exprs import named
 from knownways.programs import Program
 from knownways.reader import read
 from knownways.steps import Step
@@ -117,6 +118,35 @@ class AgainstAllSmallWorlds(Decided):
     def test_ups_downs_and_settled(self):
         sizes = self.check_made(range(200), [F, G], ["up", "down", "settled", "below"], 4, names=("x", "y"), weight=6)
         self.assertTrue(sizes.count(0) > 40 and max(sizes) > 2)
+
+    def check_suppositions(self, told, step, seeds, most=5):
+        """Suppositions of one step's results, in worlds of many values."""
+        sizes = []
+        for seed in seeds:
+            making = Claiming(seed)
+            chain = [named("x"), named("y"), step("x"), step("y"), step(step("x")), step(step("y"))]
+            chosen = making.chance.sample(chain, 4)
+            supposed = [Comparison(low, making.one_of(["<", "<", "<="]), high) for low, high in zip(chosen, chosen[1:])]
+            claim = Always(NOTHING, NEVER, supposed=supposed)
+            found = self.check_decided(claim, told)
+            least = least_failing(claim, told, most)
+            sizes.append(0 if found is None else found.world.size)
+            expected = sizes[-1] if 0 < sizes[-1] <= most else None
+            self.assertEqual(least, expected, (str(claim), str(told)))
+        return sizes
+
+    def test_many_values_of_each_kind_of_step(self):
+        seen = {}
+        for told in ("settled f", "settled f,up f", "settled f,down f", "settled f,up f,down f", "up f", "down f", "down f,up f",
+                     "below f g", "below g f"):
+            seen[told] = self.check_suppositions(traits(*told.split(",")), F, range(50), 3 if "g" in told else 5)
+        for told in ("settled f", "settled f,up f", "settled f,down f", "up f", "down f"):
+            self.assertTrue(seen[told].count(0) > 5 and seen[told].count(3) > 3, (told, seen[told]))
+
+    def test_many_values_of_partners(self):
+        for low, high in (("f", "g"), ("g", "f")):
+            sizes = self.check_suppositions(traits(f"back {low} {high}"), F, range(50), 3)
+            self.assertTrue(sizes.count(3) > 3 and sizes.count(4) > 1, sizes)
 
     def test_backs(self):
         found = []

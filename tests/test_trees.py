@@ -305,7 +305,8 @@ class Terms(Trees):
                      "m(x)", "m(x,y)", "m(x,  y)", "m(x, y, x)", "m(x, y), x", "m", "x'", "d(x)", "e(x)", "lesser(x, y)",
                      "greater(x, x)", "lesser", "x(y)", "f(z)", "f(X)", "end", "end(0, 0, x)", "end(x)", "f(x)\n", "\n", "m(x y)",
                      "(x)", "f[x]", "f(,)", "m(, )", "m(x, )", "1", "f(1)", "x & y", "f(x)f(x)", "xx", "xy", "f(x))", "((x",
-                     "if", "else", "f(lesser(x, y))", "least", "greatest", "f(least)", "'", "x''", "f'(x)", "f(x)'", "f(x')"):
+                     "if", "else", "f(lesser(x, y))", "least", "greatest", "f(least)", "f(x]", "f(x,", "f(x;",
+                     "m(x, y]", "m(x; y)", "m(x,,y)", "m(x--y)", "m(x  y)", "m(x ,y)", "m(x, y(", "f(xy", "f(x(", "'", "x''", "f'(x)", "f(x)'", "f(x')"):
             self.check_text(claim, text, False)
 
     def test_any_values_as_texts(self):

@@ -80,9 +80,7 @@ def _settled(value, entries):
         above = [worth for argument, worth in pairs if value <= argument]
         return value if entries.has("down") or not above else min(above)
     below = [worth for argument, worth in pairs if argument <= value]
-    if below:
-        return max(below)
-    return value if entries.has("down") or not pairs else min([worth for _, worth in pairs])
+    return max(below) if below else value
 
 
 def _lower_partner(value, bounds, partners):

@@ -1,6 +1,7 @@
 """Points [25] to [28]: whether claims hold, and worlds of the fewest values in which they fail."""
 
 import unittest
+from itertools import permutations
 
 from knownways.claims import Alike, Always, Falls, NeverAbove, NeverRefuses, NeverTaken, Rises
 from knownways.comparisons import Comparison
@@ -118,6 +119,16 @@ class AgainstAllSmallWorlds(Decided):
     def test_ups_downs_and_settled(self):
         sizes = self.check_made(range(200), [F, G], ["up", "down", "settled", "below"], 4, names=("x", "y"), weight=6)
         self.assertTrue(sizes.count(0) > 40 and max(sizes) > 2)
+
+    def test_every_order_of_settled_results(self):
+        for told in ("settled f", "settled f,up f", "settled f,down f", "settled f,up f,down f"):
+            sizes = []
+            for chosen in [*permutations(("x", "y", "f(x)", "f(y)")), *permutations(("x", "y", "f(x)", "f(y)"), 3)]:
+                claim = impossible(*[f"{low} < {high}" for low, high in zip(chosen, chosen[1:])])
+                found = self.check_decided(claim, traits(*told.split(",")))
+                sizes.append(None if found is None else found.world.size)
+                self.assertEqual(least_failing(claim, traits(*told.split(",")), 4), sizes[-1], (str(claim), told))
+            self.assertEqual(max([size or 0 for size in sizes]), 0 if "up f,down" in told else 4)
 
     def check_suppositions(self, told, step, seeds, most=5):
         """Suppositions of one step's results, in worlds of many values."""
@@ -239,6 +250,11 @@ class KnownAnswers(Decided):
             self.check_holds(claim, *told)
             for at in range(len(told)):
                 self.assertFalse(holds(claim, traits(*told[:at], *told[at + 1:])), told)
+
+    def test_steps_that_do_nothing(self):
+        self.check_size(2, impossible("x < y", "y <= f(y)"), "up f", "down f", "settled f")
+        self.check_size(3, impossible("x < y", "f(y) < z"), "up f", "down f", "settled f")
+        self.check_size(3, impossible("x < y", "f(y) < z"), "up f", "down f")
 
     def test_traits_that_do_not_help(self):
         self.check_size(2, always("f(x) <= x"), "up f")

@@ -74,7 +74,7 @@ def first_place(code, known, enclosed=False):
 
 
 def _is_decided(place, low, high, strictly):
-    """Whether it is known that low is not above high, or else whether high is below low, or not above it.
+    """True if low <= high is known; False if high < low is, or high <= low where that is enough.
 
     None if neither is known; then the place is stuck here.
     """

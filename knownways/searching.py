@@ -1,4 +1,10 @@
-"""The search for a right tree of a claim, or for values with which it fails."""
+"""The search for a right tree of a claim, or for values with which it fails.
+
+Where the runs stop, the terms that they wait for are compared. Where they have ended and the
+claim fails by what is known, the terms get the least values that the facts leave. If these
+hurt no rule, the claim fails with them; else something that the rule needs is not known yet,
+and so it is compared next: so nothing is compared that does not matter.
+"""
 
 from knownways.codes import Code
 from knownways.levels import levels_of, open_pair

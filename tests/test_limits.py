@@ -6,7 +6,10 @@ from itertools import permutations
 from knownways.claims import Alike, Always, Falls, NeverRefuses, NeverTaken, Rises
 from knownways.comparisons import Comparison
 from knownways.deciding import breach, holds
+from knownways.desk import Desk
+from knownways.errors import Impossible
 from knownways.exprs import named
+from knownways.needed import greatest_failing, least_traits
 from knownways.reader import read
 from knownways.steps import Step
 from knownways.traits import Trait, Traits
@@ -116,6 +119,35 @@ class Limits(Decided):
         self.check_limits(NeverTaken(deep + program("if z <= z", "else", "x = y", "end"), 6, False), None)
         self.check_limits(Always(deep, Comparison("x", "<=", "z"), supposed=[Comparison("x", "<=", "z"), Comparison("y", "<=", "w")]), None)
         self.check_limits(Always(deep, Comparison("x", "<=", "z"), supposed=[Comparison("x", "<=", "z")]), 2)
+
+    def test_needed_traits(self):
+        rows = mixing("fghk", LIGHT) + mixing("fg", LIGHT)
+        f, g, h, k = STEPS[:4]
+        told = Traits(Trait("up", f), Trait("up", g), Trait("below", f, h), Trait("below", g, k), Trait("up", h))
+        claim = Always(rows, Comparison(F("x"), "<=", F(F("x"))), supposed=[])
+        self.assertEqual((len(claim.names), claim.weight), (4, 9))
+        self.assertEqual(least_traits(claim, told), (Traits(Trait("up", f)),))
+        self.assertEqual([len(one) for one in greatest_failing(claim, told)], [4])
+        claim = NeverRefuses(rows + program("if lesser(x, y) <= greater(z, w)", "else", "refuse no", "end"),
+                             supposed=[Comparison("x", "<=", F("y")), Comparison("y", "<=", G("x"))])
+        self.assertEqual((len(claim.names), claim.weight), (4, 8))
+        for call in (least_traits, greatest_failing):
+            for one in call(claim, told):
+                self.assertIs(holds(claim, one), call is least_traits)
+
+    def test_desks(self):
+        desk = Desk(Traits(Trait("up", F), Trait("below", F, G)))
+        for low, high in (("w", F("x")), (F("x"), "y"), ("y", F("z")), (F(F("z")), G("w")), (G("w"), G("y"))):
+            desk.suppose(Comparison(low, "<=", high))
+        self.assertEqual((desk.compare("x", "y"), desk.compare("w", "y"), desk.compare("x", "w"), desk.compare("z", G("y"))),
+                         ("<=", "<=", "?", "<="))
+        claim = Always(program("x |= f(w)"), Comparison("x", "<=", F("y")))
+        whole = claim.under(*desk.supposed)
+        self.assertEqual((len(whole.names), whole.weight), (4, 10))
+        self.assertIs(desk.holds(claim), True)
+        self.assertEqual(desk.breach(Always(program(), Comparison("x", "<", "y"))).world.size, 1)
+        with self.assertRaises(Impossible):
+            desk.suppose(Comparison(G("y"), "<", "z"))
 
     def test_made_claims(self):
         counted = 0

@@ -86,8 +86,6 @@ class Supposing:
     def __init__(self, desk, comparison):
         self.desk = desk
         self.comparison = comparison
-        self.told = desk.told
-        self.supposed = desk.supposed
 
     def __enter__(self):
         self.told = self.desk.told

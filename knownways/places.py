@@ -51,8 +51,8 @@ class Place:
         goals = goals_of(self.code.claim, self.refused, self.entered)
         if goals is None:
             return None
-        cell = self.code.cell
-        return self.asks + [(self.held[cell(low, name)], self.held[cell(high, name)], False)
+        code, held = self.code, self.held
+        return self.asks + [(held[code.cell(low, name)], held[code.cell(high, name)], False)
                             for low, high, name in goals]
 
 

@@ -148,6 +148,16 @@ class Language(unittest.TestCase):
             if node.id in vars(builtins):
                 self.assertIn(node.id, ALLOWED_BUILTINS, name)
 
+    def test_methods_are_called_where_they_stand(self):
+        own = {row.name for _, node in nodes_of(ast.ClassDef) for row in node.body
+               if isinstance(row, ast.FunctionDef) and not row.decorator_list}
+        of_builtins = {name for kind in (int, str, bytes, list, tuple, dict, set, frozenset) for name in dir(kind)}
+        for path, tree in trees():
+            called = [node.func for node in ast.walk(tree) if isinstance(node, ast.Call)]
+            for node in ast.walk(tree):
+                if isinstance(node, ast.Attribute) and node.attr in own | of_builtins:
+                    self.assertTrue(node in called, (path.name, node.lineno, ast.unparse(node)))
+
     def test_double_underscore_methods(self):
         for name, node in nodes_of(ast.ClassDef):
             methods = [row.name for row in node.body if isinstance(row, ast.FunctionDef) and not is_setter(row)]
